@@ -367,6 +367,39 @@ func TestFullTransaction(t *testing.T) {
 	is(t, "the next one has as much room", c, true, 60)
 }
 
+// TestWrote: of the blocks that the open transaction wrote alone, whatever they are.
+func TestWrote(t *testing.T) {
+	_, _, c := made(t, 320)
+	check := func(what string, want ...int) {
+		t.Helper()
+		for _, k := range append(noHomes(320), 245, 246, 300, 305, 319) {
+			if got := c.Wrote(k); got != slices.Contains(want, k) {
+				t.Errorf("%s: Wrote(%d) = %v", what, k, got)
+			}
+		}
+	}
+	for _, end := range []func() api.Errno{c.Commit, c.Abort} {
+		check("without a transaction")
+		begin(t, c)
+		check("in one without writes")
+		write(t, c, 300, 1, 319, 0, 245, 2, 300, 3)
+		c.Read(246)
+		c.Write(305, nil)
+		c.Write(0, full(1))
+		check("behind writes", 300, 319, 245)
+		if e := end(); e != api.OK {
+			t.Errorf("P5.3: the end of a transaction = %d", e)
+		}
+		check("behind it")
+	}
+	var none *cache.Cache
+	for _, c := range []*cache.Cache{none, {}, cache.New(nil)} {
+		if c.Wrote(300) || c.Wrote(0) {
+			t.Error("P5.4: Wrote of a nil or zero Cache is true")
+		}
+	}
+}
+
 // TestFirstAndLastHome: of devices of several sizes.
 func TestFirstAndLastHome(t *testing.T) {
 	for _, n := range []int{first + 1, first + 2, 1000, 32769, api.MaxBlocks} {
