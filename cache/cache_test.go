@@ -418,3 +418,42 @@ func TestFirstAndLastHome(t *testing.T) {
 		}
 	}
 }
+
+// TestForget: what was forgotten was not written, and leaves room for another block; all else of the transaction stays.
+func TestForget(t *testing.T) {
+	_, _, c := made(t, 320)
+	begin(t, c)
+	write(t, c, 300, 1)
+	commit(t, c)
+	c.Forget(300)
+	same(t, "Forget without a transaction", homes(t, c, 320)[300-first:303-first], 1, 0, 0)
+
+	begin(t, c)
+	c.Forget(300)
+	write(t, c, 300, 2, 301, 3, 302, 4)
+	c.Forget(300)
+	c.Forget(302)
+	for _, k := range noHomes(320) {
+		c.Forget(k)
+	}
+	same(t, "Forget", homes(t, c, 320)[300-first:303-first], 1, 3, 0)
+	is(t, "Forget", c, true, 1)
+	if c.Wrote(300) || !c.Wrote(301) || c.Wrote(302) {
+		t.Error("Forget: Wrote tells of blocks that were forgotten, or not of those that were not")
+	}
+	write(t, c, 302, 5)
+	commit(t, c)
+	same(t, "Forget, committed", homes(t, c, 320)[300-first:303-first], 1, 3, 5)
+
+	begin(t, c)
+	run(t, c, 250, 60, 1)
+	answers(t, "P5.2: the 61st block", []api.Errno{c.Write(315, full(1))}, api.ErrBig)
+	c.Forget(255)
+	answers(t, "a block in place of one that was forgotten", []api.Errno{c.Write(315, full(1)), c.Write(316, full(1))}, api.OK, api.ErrBig)
+	is(t, "Forget in a full transaction", c, true, 60)
+	var none *cache.Cache
+	for _, c := range []*cache.Cache{none, {}, cache.New(nil)} {
+		c.Forget(300)
+		is(t, "P5.4: Forget of a nil or zero Cache", c, false, 0)
+	}
+}
