@@ -7,6 +7,7 @@ import (
 
 	"bollard/alloc"
 	"bollard/api"
+	"bollard/bits"
 )
 
 // has must be true of those inodes alone.
@@ -75,6 +76,40 @@ func TestFreeInodes(t *testing.T) {
 	for _, a := range []*alloc.Alloc{none, {}, alloc.New(nil, api.Plan{})} {
 		if e := a.FreeInodes(); e != api.ErrState {
 			t.Errorf("P7.3: FreeInodes of a nil or zero Alloc = %d", e)
+		}
+	}
+}
+
+// TestInodes: the map is told as HasInode tells it, in memory of its own.
+func TestInodes(t *testing.T) {
+	for _, inodes := range []int{1, 12, 4096} {
+		k := made(t, 1200, inodes)
+		k.begin()
+		k.inodes(span(1, inodes)...)
+		if inodes > 3 {
+			k.giveInodes(2)
+		}
+		b, e := k.a.Inodes()
+		if e != api.OK || !bytes.Equal(b, k.inodeMap()) {
+			t.Fatalf("Inodes() = %v %d, want the map", b, e)
+		}
+		for i := range inodes {
+			if bits.Test(b, i) != k.a.HasInode(i) {
+				t.Errorf("the bit %d is not what HasInode tells", i)
+			}
+		}
+		clear(b)
+		if c, _ := k.a.Inodes(); bytes.Equal(b, c) {
+			t.Error("Inodes() is no new memory")
+		}
+	}
+	k := made(t, 600, 12)
+	odd := k.p
+	odd.InodeMap = -5
+	var none *alloc.Alloc
+	for what, a := range map[string]*alloc.Alloc{"nil": none, "zero": {}, "odd": alloc.New(k.c, odd), "of no cache": alloc.New(nil, k.p)} {
+		if b, e := a.Inodes(); len(b) != 0 || e != api.OK && e != api.ErrArg {
+			t.Errorf("Inodes() of an Alloc that is %s = %v %d", what, b, e)
 		}
 	}
 }

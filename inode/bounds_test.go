@@ -311,8 +311,11 @@ func TestWithinBounds(t *testing.T) {
 						files[i] = cut(b, size)
 					}
 				case 2:
-					// Shrinks of inodes that are not among the five would need the blocks of the table.
-					if _, ok := c.inodes[i]; ok && at > len(b)-2000 {
+					// Shrinks do not count, of whichever inodes.
+					i = 8 * (1 + x.below(12))
+					b = files[i]
+					at = x.below(len(b) + 1)
+					if at > len(b)-2000 {
 						k.truncate(i, at)
 						files[i] = cut(b, at)
 					}

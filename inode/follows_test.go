@@ -387,7 +387,7 @@ func (p *play) crash() {
 // TestPlay: whatever is done, files are what plain bytes are, with so many blocks.
 func TestPlay(t *testing.T) {
 	seen := map[string]int{}
-	for seed, size := range [][2]int{{300, 8}, {420, 12}, {800, 20}, {4600, 40}, {265, 3}} {
+	for seed, size := range [][2]int{{300, 8}, {420, 12}, {800, 20}, {4600, 40}, {265, 3}, {900, 150}} {
 		for again := range 3 {
 			p := &play{kit: made(t, size[0], size[1]), x: dice(seed*10 + again), kept: map[int]plain{0: {kind: 2}}, count: newCount(), seen: seen}
 			p.now = maps.Clone(p.kept)

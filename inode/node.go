@@ -5,47 +5,47 @@ import (
 	"bollard/bits"
 )
 
-// What lies in blocks: numbers of four bytes, and inodes of 64, of which not all are used.
-const (
-	numberSize = 4
-	perBlock   = api.Block / numberSize // numbers of a block
-	nodeSize   = 64
-	nodeShift  = 3 // eight inodes a block
-)
+// numberSize is how many bytes a number of a block has: enough for any block.
+const numberSize = 2
 
 // Kinds of inodes. What has none of these is no inode.
 const (
-	file = 1 + iota
-	directory
+	File = 1 + iota
+	Directory
 )
 
 // most is how many data blocks the greatest file has.
-const most = api.Direct + perBlock
+const most = api.MaxFile / api.Block
 
-// node is an inode: a value, which is read, turned and laid back. Of its blocks those that its size asks for are its own; further numbers mean nothing.
-type node struct {
+// row is what the table has of an inode beside its size.
+type row struct {
 	kind   int
-	size   int
 	index  int             // the block that holds the numbers behind these
 	direct [api.Direct]int // its first blocks
 }
 
-// row is the numbers of all data blocks of a file, in their order.
-type row [most]int
+// node is an inode: a value, which is read, turned and laid back. Of its blocks those that its size asks for are its own; further numbers mean nothing.
+type node struct {
+	row
+	size int
+}
 
-// fields is how many numbers a node has.
-const fields = 3 + api.Direct
+// list is the numbers of all data blocks of a file, in their order.
+type list [most]int
 
-// numbers are a node's, in the order in which the table has them.
-func (n node) numbers() (l [fields]int) {
-	l[0], l[1], l[2] = n.kind, n.size, n.index
-	copy(l[3:], n.direct[:])
+// fields is how many numbers a row has.
+const fields = 2 + api.Direct
+
+// numbers are a row's, in the order in which the table has them.
+func (r row) numbers() (l [fields]int) {
+	l[0], l[1] = r.kind, r.index
+	copy(l[2:], r.direct[:])
 	return l
 }
 
-// nodeOf is the node of such numbers.
-func nodeOf(l [fields]int) node {
-	return node{l[0], l[1], l[2], [api.Direct]int(l[3:])}
+// rowOf is the row of such numbers.
+func rowOf(l [fields]int) row {
+	return row{l[0], l[1], [api.Direct]int(l[2:])}
 }
 
 // there is whether a node is one that a Store laid.
@@ -55,11 +55,11 @@ func (n node) there() bool {
 
 // isKind is whether an inode may have that kind.
 func isKind(kind int) bool {
-	return kind == file || kind == directory
+	return kind == File || kind == Directory
 }
 
-// lay is numbers as bytes.
-func lay(l []int) (b []byte) {
+// lay is numbers as bytes; of those that have more, the least ones.
+func lay(l ...int) (b []byte) {
 	for _, v := range l {
 		one, _ := bits.Put(make([]byte, numberSize), 0, numberSize, false, uint64(v))
 		b = append(b, one...)

@@ -325,20 +325,21 @@ func TestTornTable(t *testing.T) {
 	}
 }
 
-// TestOddNumbers: one number of a great file's inode is another one: no call panics, and nothing is told that is no inode.
+// TestOddNumbers: one number of the table, or one byte of it, is another one: no call panics, and nothing is told that is no inode.
 func TestOddNumbers(t *testing.T) {
 	k, _ := fileOf(t, 70656)
-	odd := []uint64{0, 1, 2, 3, 245, 300, 599, 600, 70657, 70657 + 512, 1 << 17, 1<<31 - 1, 1 << 31, 1<<32 - 1}
-	for at := 64; at < 128; at += 4 {
-		for _, v := range odd {
+	odd := []uint64{0, 1, 3, 13, 300, 600, 1<<16 - 1}
+	for at := 0; at < 2*api.Block; at += 2 {
+		for n, v := range odd {
 			k.begin()
-			b, _ := k.c.Read(k.p.Table)
-			b, _ = bits.Put(b, at, 4, false, v)
-			k.must("cache.Write", k.c.Write(k.p.Table, b), api.OK)
+			block := k.p.Table + at/api.Block
+			b, _ := k.c.Read(block)
+			b, _ = bits.Put(b, at%api.Block, 1+n%2, false, v)
+			k.must("cache.Write", k.c.Write(block, b), api.OK)
 			st, e := k.s.Stat(1)
 			is := e == api.OK && st.Kind >= 1 && st.Kind <= 2 && st.Size >= 0 && st.Size <= api.MaxFile
 			if !is && (e != api.ErrNone || st != (api.Stat{})) {
-				t.Errorf("P8.1: Stat(1) = %v %d, where the number at %d is %d", st, e, at-64, v)
+				t.Errorf("P8.1: Stat(1) = %v %d, where the number at %d is %d", st, e, at, v)
 			}
 			k.s.Read(1, 0, math.MaxInt)
 			k.s.Write(1, st.Size, []byte("abc"))
@@ -347,6 +348,7 @@ func TestOddNumbers(t *testing.T) {
 			k.s.Truncate(1, 5)
 			k.s.Truncate(1, 7000)
 			k.s.Drop(1)
+			k.s.Make(1)
 			k.abort()
 		}
 	}
@@ -366,4 +368,29 @@ func TestTakenByOthers(t *testing.T) {
 		k.must("P8.3: Write", k.s.Write(i, 0, nil), api.ErrNone)
 	}
 	k.noMake(1, api.ErrFull)
+	k.abort()
+
+	// Nor is it what another one of its number was, ahead of a Format.
+	for range 3 {
+		k.step(func() {
+			for i := 1; i < 12; i++ {
+				k.make(1, i)
+			}
+		})
+		k.step(func() { k.must("P8.1: Format()", k.s.Format(), api.OK) })
+		k.begin()
+		for _, i := range []int{1, 2, 3} {
+			if n, e := k.a.TakeInode(); n != i || e != api.OK {
+				t.Fatalf("TakeInode() = %d %d", n, e)
+			}
+		}
+		k.make(2, 4)
+		k.write(4, 0, text(1, 700))
+		for _, i := range []int{1, 2, 3, 5} {
+			k.none(i)
+		}
+		k.holds(4, text(1, 700))
+		k.must("P8.1: Format()", k.s.Format(), api.OK)
+		k.commit()
+	}
 }
