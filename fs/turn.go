@@ -110,3 +110,27 @@ func (f *FS) within(do step) api.Errno {
 	}
 	return e
 }
+
+// Together does calls as if they were one: a transaction of its own, or a part of the one that was begun; with an error none of them has happened. It is for the packages that stand on this one: what they do by several calls is undone by it within a transaction, too, without undoing the transaction.
+func (f *FS) Together(do func() api.Errno) api.Errno {
+	switch {
+	case !f.stands():
+		return api.ErrOff
+	case f.phase == single:
+		return f.alone(do)
+	case f.phase == begun:
+		return f.within(do)
+	}
+	// Nothing can be changed: each of the calls says so itself, and those that look tell as ever.
+	return do()
+}
+
+// alone does calls as one transaction.
+func (f *FS) alone(do step) api.Errno {
+	f.Begin()
+	if e := do(); e != api.OK {
+		f.Abort()
+		return e
+	}
+	return f.Commit()
+}
