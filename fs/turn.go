@@ -55,6 +55,11 @@ func (f *FS) Abort() api.Errno {
 	return api.OK
 }
 
+// Off is whether all that changes something answers ErrOff. It is for the packages that stand on this one: what looks alone does not tell it.
+func (f *FS) Off() bool {
+	return !f.stands() || f.phase == dead
+}
+
 // seal makes what the cache's transaction did be for good. Where that fails, a later Mount alone can tell whether it was done.
 func (f *FS) seal() api.Errno {
 	e := f.c.Commit()
@@ -79,7 +84,7 @@ func (f *FS) forget() {
 // change does what a call changes, wholly or not at all. What the file system is in comes ahead of all that may be wrong with the call itself.
 func (f *FS) change(do step) api.Errno {
 	switch {
-	case !f.stands() || f.phase == dead:
+	case f.Off():
 		return api.ErrOff
 	case f.phase == tooGreat:
 		return api.ErrBig
